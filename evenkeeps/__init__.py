@@ -1,0 +1,1 @@
+"""Evenkeeps: programs that keep a few of an endless row by draws."""

@@ -1,0 +1,84 @@
+"""The ways through a sampler's program, with what has been drawn on them.
+
+The bounds of a way are a dict with a triple of forms for each name drawn, in the order of drawing: the number drawn
+is at least the first one and less than the second one, and it was drawn below the third one. The forms stay forms,
+so that from some n on one list of ways can stand for all n.
+"""
+
+from evenkeeps.forms import form_at
+
+NOUGHT = (0, 0)
+
+
+def paths(program, places, n):
+    """The list of the pairs (bounds, moves) of all ways that have a chance at the step n, in the order of the text."""
+    return follow(program, {}, tuple(range(places)), n)
+
+
+def follow(program, bounds, moves, n):
+    """The ways through these statements for one that has come so far."""
+    if len(program) == 0:
+        return [(bounds, moves)]
+    row, body, otherwise = program[0]
+    rest = program[1:]
+    if row.kind == "draw":
+        return follow(rest, {**bounds, row.name: (NOUGHT, row.form, row.form)}, moves, n)
+    if row.kind != "if":
+        return follow(rest, bounds, moved(row, moves), n)
+    out = []
+    for taken, narrowed in branches(row, bounds, n):
+        chosen = body if taken else otherwise
+        out.extend(follow(chosen + rest, narrowed, moves, n))
+    return out
+
+
+def branches(row, bounds, n):
+    """The pairs (whether the test holds, bounds) of the ways that part at a test, the one on which it holds first."""
+    if row.name == "n":
+        return [(holds_for(row, n), bounds)]
+    low, high, below = bounds[row.name]
+    out = []
+    for taken, since, until in cuts(row, low, high):
+        first = larger(low, since, n)
+        behind = smaller(high, until, n)
+        if form_at(first, n) < form_at(behind, n):
+            out.append((taken, {**bounds, row.name: (first, behind, below)}))
+    return out
+
+
+def holds_for(row, n):
+    """Whether a test of n holds."""
+    number = form_at(row.form, n)
+    return n < number if row.sign == "<" else n == number
+
+
+def cuts(row, low, high):
+    """The triples (whether the test holds, first form, form behind) into which a test cuts what lies between."""
+    if row.sign == "<":
+        return [(True, low, row.form), (False, row.form, high)]
+    factor, summand = row.form
+    above = (factor, summand + 1)
+    return [(True, row.form, above), (False, low, row.form), (False, above, high)]
+
+
+def larger(one, other, n):
+    """The form that has the larger value."""
+    return other if form_at(one, n) < form_at(other, n) else one
+
+
+def smaller(one, other, n):
+    """The form that has the smaller value."""
+    return other if form_at(other, n) < form_at(one, n) else one
+
+
+def moved(row, moves):
+    """The moves behind a statement that moves things."""
+    if row.kind == "exchange":
+        one, other = row.spots
+        trade = {one: moves[other], other: moves[one]}
+        return tuple([trade.get(place, thing) for place, thing in enumerate(moves)])
+    if row.kind == "put":
+        # The new item cannot lie in two places.
+        moves = tuple([None if thing == "new" else thing for thing in moves])
+    left = "new" if row.kind == "put" else None
+    return tuple([left if place == row.spots[0] else thing for place, thing in enumerate(moves)])
