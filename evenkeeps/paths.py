@@ -35,7 +35,7 @@ def follow(program, bounds, moves, n):
 def branches(row, bounds, n):
     """The pairs (whether the test holds, bounds) of the ways that part at a test, the one on which it holds first."""
     if row.name == "n":
-        return [(holds_for(row, n), bounds)]
+        return [(holds(row, n, n), bounds)]
     low, high, below = bounds[row.name]
     out = []
     for taken, since, until in cuts(row, low, high):
@@ -46,10 +46,10 @@ def branches(row, bounds, n):
     return out
 
 
-def holds_for(row, n):
-    """Whether a test of n holds."""
-    number = form_at(row.form, n)
-    return n < number if row.sign == "<" else n == number
+def holds(row, number, n):
+    """Whether a test holds at the step n for the number that it asks about."""
+    compared = form_at(row.form, n)
+    return number < compared if row.sign == "<" else number == compared
 
 
 def cuts(row, low, high):

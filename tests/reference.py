@@ -27,12 +27,12 @@ def worth(words, n):
 
 
 def runs(program, n, places):
-    """All ways to draw: (chance of these draws, the turns taken at the tests, the moves)."""
+    """All ways to draw: (chance of these draws, the turns taken at the tests, the moves, the numbers drawn)."""
     out = []
 
     def go(todo, chance, drawn, turns, moves):
         if not todo:
-            out.append((chance, turns, tuple(moves)))
+            out.append((chance, turns, tuple(moves), tuple(drawn.values())))
             return
         (words, body, other), rest = todo[0], todo[1:]
         if words[0] == "draw":
@@ -72,10 +72,110 @@ def ways_of(text, n):
     """What the generator `ways` has to give, as a list."""
     places, program = parse(text)
     sums, ends = {}, {}
-    for chance, turns, moves in runs(program, n, places):
+    for chance, turns, moves, draws in runs(program, n, places):
         sums[turns] = sums.get(turns, 0) + chance
         ends[turns] = moves
     return [((sums[turns].numerator, sums[turns].denominator), ends[turns]) for turns in sorted(sums)]
+
+
+def after(row, moves, item):
+    """The row behind these moves."""
+    return tuple(item if thing == "new" else None if thing is None else row[thing] for thing in moves)
+
+
+def runs_of(text, length):
+    """All pairs (draws, row) for a length, each draw of each item one by one."""
+    places, program = parse(text)
+    rows = [((), (None,) * places)]
+    for n in range(1, length + 1):
+        steps = runs(program, n, places)
+        rows = [(past + (draws,), after(row, moves, n)) for past, row in rows for chance, turns, moves, draws in steps]
+    return rows
+
+
+def walk_rows(text, length):
+    """The dict {row: chance} from going through all draws, each whole row of draws by itself."""
+    places, program = parse(text)
+    rows = [(Fraction(1), (None,) * places)]
+    for n in range(1, length + 1):
+        steps = runs(program, n, places)
+        rows = [(share * chance, after(row, moves, n)) for share, row in rows for chance, turns, moves, draws in steps]
+    out = {}
+    for chance, row in rows:
+        out[row] = out.get(row, 0) + chance
+    return out
+
+
+class Walk:
+    """Chances for longer rows: all draws of each step one by one, then one row after another."""
+
+    def __init__(self, text):
+        self.places, self.program = parse(text)
+        self.steps = {}
+
+    def step(self, n):
+        """The dict {moves: chance} of a step."""
+        if n not in self.steps:
+            found = {}
+            for chance, turns, moves, draws in runs(self.program, n, self.places):
+                found[moves] = found.get(moves, 0) + chance
+            self.steps[n] = found
+        return self.steps[n]
+
+    def rows(self, length, wanted=None):
+        """The dict {row: chance}, in which all items but the wanted ones are left out."""
+        rows = {(None,) * self.places: Fraction(1)}
+        for n in range(min(wanted) if wanted else 1, length + 1):
+            rows = self.led(rows, n, n if wanted is None or n in wanted else None)
+        return rows
+
+    def led(self, rows, n, item):
+        out = {}
+        for row, share in rows.items():
+            for moves, chance in self.step(n).items():
+                behind = after(row, moves, item)
+                out[behind] = out.get(behind, 0) + share * chance
+        return out
+
+    def kept(self, length, *items):
+        """The chance that all of these items are kept."""
+        return sum((chance for row, chance in self.rows(length, items).items() if set(items) <= set(row)), Fraction(0))
+
+    def in_place(self, length, item, place):
+        return sum((chance for row, chance in self.rows(length, [item]).items() if row[place] == item), Fraction(0))
+
+    def first_uneven(self, last, place=None):
+        """The least triple up to some length, looked for as the document says it."""
+        states = {}
+        for n in range(1, last + 1):
+            states = {item: self.led(rows, n, None) for item, rows in states.items()}
+            states[n] = self.led({(None,) * self.places: Fraction(1)}, n, n)
+            worth = {
+                item: sum(chance for row, chance in rows.items() if (item in row if place is None else row[place] == item))
+                for item, rows in states.items()
+            }
+            for t in range(1, n + 1):
+                for u in range(t + 1, n + 1):
+                    if worth[t] != worth[u]:
+                        return (n, t, u)
+        return None
+
+    def first_uneven_pairs(self, last):
+        """The least triple up to some length."""
+        alone, pairs = {}, {}
+        for n in range(1, last + 1):
+            pairs = {pair: self.led(rows, n, None) for pair, rows in pairs.items()}
+            for item, rows in alone.items():
+                pairs[item, n] = self.led(rows, n, n)
+            alone = {item: self.led(rows, n, None) for item, rows in alone.items()}
+            alone[n] = self.led({(None,) * self.places: Fraction(1)}, n, n)
+            worth = {
+                pair: sum(chance for row, chance in rows.items() if set(pair) <= set(row)) for pair, rows in pairs.items()
+            }
+            found = sorted((one, other) for one in worth for other in worth if one < other and worth[one] != worth[other])
+            if found:
+                return (n, *found[0])
+        return None
 
 
 class Chooser:

@@ -21,7 +21,7 @@ ODD = Odd()
 NO_NUMBERS = (None, True, False, "1", "", b"1", (), (1,), [1], {}, {1}, ODD, object(), len, int)
 
 
-def caught(test, kind, deed, *values, **named):
+def caught(test, kind, deed, /, *values, **named):
     """The error of this very class that the call raises."""
     try:
         deed(*values, **named)
@@ -40,3 +40,16 @@ def steps(seed):
         return (state[0] >> 33) % bound
 
     return below
+
+
+def text_of(*lines, places=3):
+    """The text of a sampler with these lines."""
+    return "\n".join([f"places {places}", *lines])
+
+
+def wrong_samplers(sampler):
+    """Things that are no samplers; the argument is one."""
+    return (
+        None, 0, 1, True, "", "places 1", str(sampler), b"places 1", (), (sampler,), [sampler], {"sampler": sampler},
+        ODD, object(), type(sampler), len,
+    )

@@ -29,6 +29,40 @@ class Examples(unittest.TestCase):
             Sampler("places 1\nif r < 2\n  put 0\ndraw r below n")
         self.assertEqual(held.exception.line, 1)
 
+    def test_chances(self):
+        from evenkeeps.catalog import fading, pair, single
+        from evenkeeps.chances import chance, chances, pair_chance, row_chances
+        self.assertEqual(
+            [chances(single(), 3), chance(pair(), 4, 1, place=0), pair_chance(pair(), 4, 1, 3), chances(fading(2), 3), row_chances(single(), 2)],
+            [((1, 3), (1, 3), (1, 3)), (1, 2), (1, 6), ((1, 8), (1, 4), (1, 2)), (((1,), (1, 2)), ((2,), (1, 2)))],
+        )
+
+    def test_players(self):
+        from evenkeeps.catalog import pair
+        from evenkeeps.players import Player, play, runs
+        player = Player(pair())
+        player.feed()
+        player.feed()
+        player.feed(1)
+        first = player.row
+        player.back()
+        player.feed(2)
+        self.assertEqual(
+            [first, player.row, player.length, play(pair(), ((), (), (0,), (3,))), list(runs(pair(), 3))[1]],
+            [(1, 3), (1, 2), 3, (3, 2), (((), (), (1,)), (1, 3))],
+        )
+
+    def test_evenness(self):
+        from evenkeeps.catalog import fading, last, pair, single
+        from evenkeeps.evenness import first_uneven, first_uneven_pairs, is_even, is_even_in_pairs, is_even_in_places
+        from evenkeeps.samplers import Sampler
+        late = Sampler("places 1\nif n < 10\n  draw r below n\n  if r is 0\n    put 0\nelse\n  draw r below n + 1\n  if r is 0\n    put 0")
+        self.assertEqual(
+            [is_even(pair()), is_even_in_places(pair()), is_even_in_pairs(pair()), first_uneven(fading(2)), first_uneven(late), is_even(last(1)), first_uneven_pairs(last(2))],
+            [True, False, True, (2, 1, 2), (10, 1, 10), False, (3, (1, 2), (2, 3))],
+        )
+        self.assertTrue(is_even(single()))
+
 
 if __name__ == "__main__":
     unittest.main()

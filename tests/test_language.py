@@ -266,7 +266,59 @@ class Language(unittest.TestCase):
                     self.assertTrue(iterated or taken, where)
                 if name == "set":
                     parent = above[node]
-                    self.assertTrue(isinstance(parent, ast.Call) and parent.func.id in ("sorted", "len"), where)
+                    compared = isinstance(parent, ast.Compare) and len(parent.ops) == 1 and isinstance(
+                        parent.ops[0], (ast.Eq, ast.NotEq)) and all(
+                        isinstance(side, ast.Call) and side.func.id == "set" for side in (parent.left, *parent.comparators))
+                    taken = isinstance(parent, ast.Call) and parent.func.id in ("sorted", "len")
+                    self.assertTrue(compared or taken, where)
+
+    def test_generators(self):
+        names = set()
+        for path, node in nodes(ast.FunctionDef):
+            if any(isinstance(part, (ast.Yield, ast.YieldFrom)) for part in ast.walk(node)):
+                names.add(node.name)
+                for part in ast.walk(node):
+                    self.assertNotIsInstance(part, (ast.Try, ast.With), self.where(path, part))
+                    self.assertFalse(isinstance(part, ast.Return) and part.value, self.where(path, part))
+        all_names = [node.name for path, node in nodes(ast.FunctionDef)]
+        for name in names:
+            self.assertEqual(all_names.count(name), 1)
+        for path, tree in TREES.items():
+            above = parents(tree)
+            for node in ast.walk(tree):
+                if isinstance(node, ast.Name) and node.id in names:
+                    call = above[node]
+                    self.assertTrue(isinstance(call, ast.Call) and call.func is node, self.where(path, node))
+                    parent = above[call]
+                    iterated = isinstance(parent, (ast.For, ast.comprehension)) and parent.iter is call
+                    self.assertTrue(iterated or isinstance(parent, ast.YieldFrom), self.where(path, node))
+                    for argument in call.args:
+                        self.assertIsInstance(argument, (ast.Name, ast.Attribute, ast.Constant, ast.Tuple))
+
+    def test_blocks(self):
+        """That `with` stands over own classes, and that what ends a block only assigns attributes."""
+        owners = set()
+        for owner, method in methods():
+            if method.name == "__exit__":
+                owners.add(owner.name)
+                for part in method.body:
+                    self.assertIsInstance(part, ast.Assign)
+                    self.assertTrue(all(isinstance(side, ast.Attribute) for side in (part.value, *part.targets)))
+        for path, node in nodes(ast.With):
+            for part in node.items:
+                self.assertIn(part.context_expr.func.id, owners, self.where(path, node))
+
+    def test_properties(self):
+        for owner, method in methods():
+            if [ast.unparse(decorator) for decorator in method.decorator_list] == ["property"]:
+                self.assertEqual(len(method.args.args), 1)
+                for part in ast.walk(method):
+                    self.assertNotIsInstance(part, (ast.Assign, ast.AugAssign, ast.Call, ast.Delete))
+
+    def test_handlers(self):
+        own = {node.name for path, node in nodes(ast.ClassDef)}
+        for path, node in nodes(ast.ExceptHandler):
+            self.assertIn(node.type.id, own | {"KeyError", "ZeroDivisionError"}, self.where(path, node))
 
     def test_errors_are_made_where_they_are_raised(self):
         for path, node in nodes(ast.Raise):
@@ -281,6 +333,12 @@ class Interface(unittest.TestCase):
         "ratios": {"Ratio": "__init__ read over later __call__ __add__ __radd__ __sub__ __rsub__ __mul__ __rmul__ __neg__"
                             " __pow__ __bool__ __eq__ __str__ __repr__"},
         "samplers": {"Sampler": "__init__ __eq__ __str__ __repr__", "ways": ""},
+        "catalog": {"pair": "", "single": "", "fading": "", "last": ""},
+        "chances": {"chance": "", "pair_chance": "", "chances": "", "row_chances": ""},
+        "players": {"Player": "__init__ feed back twin length row", "Trial": "__init__ __enter__ __exit__",
+                    "tried": "", "runs": "", "play": ""},
+        "evenness": {"is_even": "", "first_uneven": "", "is_even_in_places": "", "is_even_in_pairs": "",
+                     "first_uneven_pairs": ""},
     }
 
     def test_definitions(self):

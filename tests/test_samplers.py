@@ -4,28 +4,12 @@ from evenkeeps.errors import BelowOne, DrawnTwice, InvalidText, NotDrawn, TooMuc
 from evenkeeps.forms import form_at, form_text, read_form
 from evenkeeps.samplers import Sampler, ways
 from tests.reference import random_text
-from tests.support import ODD, caught, steps
+from tests.support import ODD, caught, steps, text_of
+from tests.texts import PAIR
 
-PAIR = """places 2
-if n < 3
-  if n is 1
-    put 0
-  else
-    put 1
-else
-  draw r below n
-  if r < 2
-    if r is 0
-      put 0
-    else
-      put 1"""
 RESERVED = (
     "n", "m", "is", "if", "else", "draw", "below", "put", "exchange", "empty", "places", "take", "other", "join",
 )
-
-
-def text_of(*lines, places=3):
-    return "\n".join([f"places {places}", *lines])
 
 
 def all_forms():

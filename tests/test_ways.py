@@ -5,8 +5,8 @@ from fractions import Fraction
 from evenkeeps.errors import InvalidLength, NotASampler
 from evenkeeps.samplers import Sampler, ways
 from tests.reference import random_text, ways_of
-from tests.support import NO_NUMBERS, ODD, caught, steps
-from tests.test_samplers import PAIR, text_of
+from tests.support import NO_NUMBERS, ODD, caught, steps, text_of
+from tests.texts import PAIR
 
 
 def listed(lines, step, places=2):
