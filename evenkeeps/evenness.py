@@ -17,18 +17,24 @@ def first_uneven(sampler, place=None):
     """None, or the triple (n, t, u) with the first length at which two items differ, and the first two of these."""
     check_sampler(sampler)
     check_place(place, sampler)
+    last = last_for_items(sampler)
+    for rows in standings(sampler, last):
+        others = unlike_first([sum(row) if place is None else row[place] for row in rows])
+        if len(others) > 0:
+            # If any two differ, then one of them differs from the first item.
+            return (len(rows), 1, others[0] + 1)
+    return None
+
+
+def standings(sampler, last):
+    """Yields the list of the rows of the weights of all items, for each length up to the last one."""
     below = 1
     rows = []
-    for n in range(1, last_for_items(sampler) + 1):
+    for n in range(1, last + 1):
         step = Step(sampler, n)
         rows = items_after(rows, step, below)
         below = below * step.below
-        kept = [sum(row) if place is None else row[place] for row in rows]
-        others = unlike_first(kept)
-        if len(others) > 0:
-            # If any two differ, then one of them differs from the first item.
-            return (n, 1, others[0] + 1)
-    return None
+        yield rows
 
 
 def unlike_first(numbers):
@@ -39,12 +45,8 @@ def unlike_first(numbers):
 def is_even_in_places(sampler):
     """Whether for every length all items have the same chance in all places."""
     check_sampler(sampler)
-    below = 1
-    rows = []
-    for n in range(1, last_for_items(sampler) + 1):
-        step = Step(sampler, n)
-        rows = items_after(rows, step, below)
-        below = below * step.below
+    last = last_for_items(sampler)
+    for rows in standings(sampler, last):
         if len(unlike_first([weight for row in rows for weight in row])) > 0:
             return False
     return True

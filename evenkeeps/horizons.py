@@ -16,16 +16,16 @@ t + 1 items times c(j), j < m, has a degree of at most b * (j + 2): if it is 0 f
 is always 0, and with it d times all other c(j). The last length of these is t + 1 + j, at most 19 + b * (k + 1) + k.
 For chances in two places likewise, with the row of t in the place of d.
 
-Pairs. Here c(j) belongs to the two or three groups of two places, or the only one, and tells how a pair goes on. All
+Pairs. Here c(j) belongs to the three groups of two places, or the only one, and tells how a pair goes on. All
 pairs are equal if (t, u) and (t + 1, u) are, and (u - 1, u) and (u - 1, u + 1). Pairs that have come after N items are
 settled as above, with N from 20 on. The second kind has degrees of at most b * (3 + j), j < 3, for u from 20 on. For
 the first kind, d as above is led on to u - 1, then with the item u to pairs, then on as pairs: it is multiplied by
 what the tables of i steps make of the column g(j) that the step behind them makes of c(j). Over the fractions, these
-columns for i + j up to 3 (up to 1, if there are two places) lead to all others: as long as i + j goes up, the space of
-them becomes larger or, once, gets only g(2), or stays as it is for ever. The degrees of independent ones, 1 + i + j
-times b, add up to at most b * (1 + 3 + 4), for two places b * (1 + 2). With b * (1 + 2) for the c(j), N is at most
-20 + 11 * b, or 20 + 3 * b; the last length is N + 1 + i + j. For t from N on the degrees are at most
-b * (3 + i + j), the last length is at most 19 + 6 * b + 5, or 19 + 4 * b + 3.
+columns for i + j up to 3 (up to 1, if there are two places) lead to all others: when i + j goes up by one, the space of
+them grows or stays as it is for ever, but that it may wait once for g(2). The degrees of independent ones, 1 + i + j
+times b, add up to at most b * (1 + 3 + 4), for two places to b * (1 + 2). With b * (1 + 2) for the c(j) of three
+groups, N is at most 20 + 11 * b, or 20 + 3 * b; the last length is N + 1 + i + j. For t from N on the degrees are at
+most b * (3 + i + j), and the last length is at most 19 + 6 * b + 5, or 19 + 4 * b + 3.
 """
 
 from evenkeeps.limits import SETTLED
@@ -40,7 +40,7 @@ def forms_below(sampler):
         forms = [below for first, behind, below in bounds.values()]
         for form in forms:
             most[form] = max(most.get(form, 0), forms.count(form))
-    return [form for form in most for number in range(most[form])]
+    return [each for each in most for number in range(most[each])]
 
 
 def degree(sampler):

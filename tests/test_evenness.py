@@ -368,6 +368,10 @@ class EveryLength(unittest.TestCase):
         branches = text_of("draw a below 2", "if a is 0", "  draw r below n", "  draw s below n", "else",
                            "  draw r below n", "  draw s below 2*n", places=1)
         self.assertEqual(sorted(forms_below(Sampler(branches))), [(0, 2), (1, 0), (1, 0), (2, 0)])
+        # The way with the second draw has no chance before 20.
+        late_draw = text_of("draw s below 3*n", "if s < n - 9", "  if s < 9", "    put 0", "  else", "    if s is 9",
+                            "      put 0", "    else", "      draw q below n + 5", places=1)
+        self.assertEqual(sorted(forms_below(Sampler(late_draw))), [(1, 5), (3, 0)])
         self.assertEqual(last_for_items(single()), 22)
         self.assertEqual(last_for_items(Sampler(TRIPLE)), 26)
         self.assertEqual(last_for_pairs(pair()), 26)
