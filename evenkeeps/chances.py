@@ -1,7 +1,7 @@
 """The exact chances of items, of pairs of items and of rows."""
 
 from evenkeeps.checks import check_item, check_length, check_place, check_sampler
-from evenkeeps.steps import Step, carried, items_after, times
+from evenkeeps.steps import Step, carried, standings, times
 from evenkeeps.wholes import fraction
 
 MOST_ROW_LENGTH = 8
@@ -53,12 +53,7 @@ def chances(sampler, length):
     """The tuple of the chances of all items to be kept."""
     check_sampler(sampler)
     check_length(length)
-    rows = []
-    below = 1
-    for n in range(1, length + 1):
-        step = Step(sampler, n)
-        rows = items_after(rows, step, below)
-        below = below * step.below
+    rows, below = list(standings(sampler, length))[-1]
     return tuple([fraction(sum(row), below) for row in rows])
 
 

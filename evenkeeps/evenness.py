@@ -5,7 +5,7 @@ All rows of weights after one step are fractions of the same number, so they are
 
 from evenkeeps.checks import check_place, check_sampler
 from evenkeeps.horizons import last_for_items, last_for_pairs
-from evenkeeps.steps import Step, items_after, times
+from evenkeeps.steps import Step, items_after, standings, times
 
 
 def is_even(sampler, place=None):
@@ -18,23 +18,12 @@ def first_uneven(sampler, place=None):
     check_sampler(sampler)
     check_place(place, sampler)
     last = last_for_items(sampler)
-    for rows in standings(sampler, last):
+    for rows, below in standings(sampler, last):
         others = unlike_first([sum(row) if place is None else row[place] for row in rows])
         if len(others) > 0:
             # If any two differ, then one of them differs from the first item.
             return (len(rows), 1, others[0] + 1)
     return None
-
-
-def standings(sampler, last):
-    """Yields the list of the rows of the weights of all items, for each length up to the last one."""
-    below = 1
-    rows = []
-    for n in range(1, last + 1):
-        step = Step(sampler, n)
-        rows = items_after(rows, step, below)
-        below = below * step.below
-        yield rows
 
 
 def unlike_first(numbers):
@@ -46,7 +35,7 @@ def is_even_in_places(sampler):
     """Whether for every length all items have the same chance in all places."""
     check_sampler(sampler)
     last = last_for_items(sampler)
-    for rows in standings(sampler, last):
+    for rows, below in standings(sampler, last):
         if len(unlike_first([weight for row in rows for weight in row])) > 0:
             return False
     return True

@@ -1,13 +1,14 @@
-"""The ways through a sampler's program, with what has been drawn on them.
+"""The ways through a program, with what has been drawn on them.
 
 The bounds of a way are a dict with a triple of forms for each name drawn, in the order of drawing: the number drawn
 is at least the first one and less than the second one, and it was drawn below the third one. The forms stay forms,
 so that from some n on one list of ways can stand for all n.
+
+For a join, the pair (m, n) stands in the place of n, and the places are those of both samples, one behind the other.
 """
 
 from evenkeeps.forms import form_at
-
-NOUGHT = (0, 0)
+from evenkeeps.wholes import fraction
 
 
 def paths(program, places, n):
@@ -22,7 +23,8 @@ def follow(program, bounds, moves, n):
     row, body, otherwise = program[0]
     rest = program[1:]
     if row.kind == "draw":
-        return follow(rest, {**bounds, row.name: (NOUGHT, row.form, row.form)}, moves, n)
+        nought = (0,) * len(row.form)
+        return follow(rest, {**bounds, row.name: (nought, row.form, row.form)}, moves, n)
     if row.kind != "if":
         return follow(rest, bounds, moved(row, moves), n)
     out = []
@@ -56,9 +58,18 @@ def cuts(row, low, high):
     """The triples (whether the test holds, first form, form behind) into which a test cuts what lies between."""
     if row.sign == "<":
         return [(True, low, row.form), (False, row.form, high)]
-    factor, summand = row.form
-    above = (factor, summand + 1)
+    above = row.form[:-1] + (row.form[-1] + 1,)
     return [(True, row.form, above), (False, low, row.form), (False, above, high)]
+
+
+def chance_of(bounds, n):
+    """The chance of a way with these bounds at the step n."""
+    above = 1
+    below = 1
+    for first, behind, form in bounds.values():
+        above = above * (form_at(behind, n) - form_at(first, n))
+        below = below * form_at(form, n)
+    return fraction(above, below)
 
 
 def larger(one, other, n):
@@ -73,12 +84,26 @@ def smaller(one, other, n):
 
 def moved(row, moves):
     """The moves behind a statement that moves things."""
+    half = len(moves) // 2
     if row.kind == "exchange":
-        one, other = row.spots
-        trade = {one: moves[other], other: moves[one]}
-        return tuple([trade.get(place, thing) for place, thing in enumerate(moves)])
-    if row.kind == "put":
-        # The new item cannot lie in two places.
-        moves = tuple([None if thing == "new" else thing for thing in moves])
-    left = "new" if row.kind == "put" else None
-    return tuple([left if place == row.spots[0] else thing for place, thing in enumerate(moves)])
+        return exchanged(moves, row.spots[0], row.spots[1])
+    if row.kind == "other":
+        return exchanged(moves, half + row.spots[0], half + row.spots[1])
+    if row.kind == "take":
+        into, out_of = row.spots
+        return changed(moves, {into: moves[half + out_of], half + out_of: None})
+    if row.kind == "empty":
+        return changed(moves, {row.spots[0]: None})
+    # The new item cannot lie in two places.
+    gone = tuple([None if thing == "new" else thing for thing in moves])
+    return changed(gone, {row.spots[0]: "new"})
+
+
+def exchanged(moves, one, other):
+    """The moves with two places changing sides."""
+    return changed(moves, {one: moves[other], other: moves[one]})
+
+
+def changed(moves, things):
+    """The moves with other things in some places."""
+    return tuple([things.get(place, thing) for place, thing in enumerate(moves)])

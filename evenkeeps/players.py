@@ -30,7 +30,7 @@ class Player:
     def feed(self, *draws):
         """The next item comes, and these numbers are drawn."""
         item = self.length + 1
-        moves = moves_with(self.sampler, item, draws)
+        moves = moves_with(self.sampler.program, self.sampler.places, item, draws)
         self.state = (item, carried(self.row, moves, item), self.state)
 
     def back(self):
@@ -91,7 +91,7 @@ def runs_behind(sampler, length, past, row):
 
 def draws_behind(sampler, n, draws):
     """Yields a pair (draws, moves) for each way to go on drawing in the step n behind these draws."""
-    bound, moves = walked(sampler, n, draws)
+    bound, moves = walked(sampler.program, sampler.places, n, draws)
     if bound is None:
         yield (draws, moves)
         return

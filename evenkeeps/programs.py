@@ -1,7 +1,8 @@
 """Programs as rows, one for each line, and as trees of statements."""
 
-from evenkeeps.errors import DrawnTwice, NotDrawn, TooMuch, UnknownPlace
-from evenkeeps.limits import MOST_DRAWS, MOST_NESTED, MOST_STATEMENTS
+from evenkeeps.errors import BelowOne, DrawnTwice, NotDrawn, TooMuch, UnknownPlace
+from evenkeeps.forms import form_at
+from evenkeeps.limits import MOST_DRAWS, MOST_NESTED, MOST_ON_A_WAY, MOST_STATEMENTS
 from evenkeeps.wholes import read_whole
 
 HEADS = ("if", "else")
@@ -64,14 +65,18 @@ def is_nested_well(rows):
     return not latest or latest[-1] not in HEADS
 
 
+def count_statements(rows):
+    """The number of the statements; an `else` belongs to its `if`."""
+    return len([row for row in rows if row.kind != "else"])
+
+
 def check_amounts(rows):
     """Raises TooMuch if there is more in the program than is allowed, whatever its ways are."""
-    statements = [row for row in rows if row.kind != "else"]
-    if len(statements) > MOST_STATEMENTS:
+    if count_statements(rows) > MOST_STATEMENTS:
         raise TooMuch("statements")
     if len([row for row in rows if row.kind == "draw"]) > MOST_DRAWS:
         raise TooMuch("draws")
-    if any([row.depth > MOST_NESTED for row in statements]):
+    if any([row.depth > MOST_NESTED for row in rows if row.kind != "else"]):
         raise TooMuch("nested")
 
 
@@ -144,6 +149,14 @@ class Survey:
         self.again = self.again + one.again + two.again
 
 
+def built(rows, places):
+    """The pair (tree, survey) of a program; raises the errors about all but its forms and the draws on a way."""
+    check_amounts(rows)
+    check_spots(rows, places)
+    program = nested(rows)
+    return (program, surveyed(program))
+
+
 def surveyed(program):
     """The survey of a whole program; raises NotDrawn or DrawnTwice with the first line of this kind."""
     survey = Survey((), (), 0)
@@ -153,3 +166,17 @@ def surveyed(program):
     if len(survey.again) > 0:
         raise DrawnTwice(min(survey.again))
     return survey
+
+
+def check_below(rows, least):
+    """Raises BelowOne with the first line in which nothing can be drawn for some n, the least n being this one."""
+    for row in rows:
+        # No form falls, so it is least for the least n; for a join, for the least m and n.
+        if row.kind == "draw" and form_at(row.form, least) < 1:
+            raise BelowOne(row.line)
+
+
+def check_most(survey):
+    """Raises TooMuch if too many names are drawn on some way."""
+    if survey.most > MOST_ON_A_WAY:
+        raise TooMuch("way")

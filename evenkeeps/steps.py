@@ -5,9 +5,8 @@ the thing "new", anything else is called by the number of its place. For two thi
 lies in which of two places.
 """
 
-from evenkeeps.paths import paths
-from evenkeeps.samplers import chance_of
-from evenkeeps.wholes import common_divisor
+from evenkeeps.paths import chance_of, paths
+from evenkeeps.wholes import common_multiple
 
 
 class Step:
@@ -28,14 +27,6 @@ class Step:
         self.beside = columns(self.weights, [(place, "new") for place in range(sampler.places)], both)
         self.singles = columns(self.weights, alone, alone)
         self.pairs = columns(self.weights, both, both)
-
-
-def common_multiple(numbers):
-    """The least number from 1 on that all of these numbers divide."""
-    out = 1
-    for number in numbers:
-        out = out // common_divisor(out, number) * number
-    return out
 
 
 def gathered(parts, whole):
@@ -78,6 +69,17 @@ def times(row, table):
 def items_after(rows, step, below):
     """The rows of the weights of all items after a step, `below` being the weight of everything before it."""
     return [times(row, step.singles) for row in rows] + [times((below,), step.new)]
+
+
+def standings(sampler, last):
+    """Yields a pair for each length up to the last one: the rows of the weights of all items, and the whole weight."""
+    below = 1
+    rows = []
+    for n in range(1, last + 1):
+        step = Step(sampler, n)
+        rows = items_after(rows, step, below)
+        below = below * step.below
+        yield (rows, below)
 
 
 def carried(row, moves, item):

@@ -1,4 +1,4 @@
-"""Steps of a sampler with draws that are handed in."""
+"""Programs that are done with draws that are handed in."""
 
 from evenkeeps.errors import InvalidDraws
 from evenkeeps.forms import form_at
@@ -6,14 +6,14 @@ from evenkeeps.paths import holds, moved
 from evenkeeps.wholes import is_between
 
 
-def walked(sampler, n, draws):
-    """How far these draws lead in the step n: a pair (bound, moves), draws that are too many being passed over.
+def walked(program, places, n, draws):
+    """How far these draws lead at the step n: a pair (bound, moves), draws that are too many being passed over.
 
     `bound` is what the next number has to be drawn below, None at the end of the program.
     """
-    todo = sampler.program
+    todo = program
     drawn = {}
-    moves = tuple(range(sampler.places))
+    moves = tuple(range(places))
     while len(todo) > 0:
         row, body, otherwise = todo[0]
         todo = todo[1:]
@@ -29,13 +29,13 @@ def walked(sampler, n, draws):
     return (None, moves)
 
 
-def moves_with(sampler, n, draws):
+def moves_with(program, places, n, draws):
     """The moves of the step n with these draws; raises InvalidDraws with the index of the first one that is wrong."""
-    bound, moves = walked(sampler, n, ())
+    bound, moves = walked(program, places, n, ())
     for index, number in enumerate(draws):
         if bound is None or not is_between(number, 0, bound - 1):
             raise InvalidDraws(index)
-        bound, moves = walked(sampler, n, draws[:index + 1])
+        bound, moves = walked(program, places, n, draws[:index + 1])
     if bound is not None:
         raise InvalidDraws(len(draws))
     return moves

@@ -18,6 +18,14 @@ def common_divisor(one, other):
     return abs(one)
 
 
+def common_multiple(numbers):
+    """The least number from 1 on that all of these numbers divide."""
+    out = 1
+    for number in numbers:
+        out = out // common_divisor(out, number) * number
+    return out
+
+
 def fraction(above, below):
     """The pair of numbers for above / below, without a common divisor and with the second one above 0."""
     shared = common_divisor(above, below)

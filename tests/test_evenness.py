@@ -336,7 +336,7 @@ class EveryLength(unittest.TestCase):
         below = steps(55)
         for number in range(200):
             sampler = Sampler(random_text(below, most_draws=3, most_lines=18))
-            self.assertLessEqual(degree(sampler), 6)
+            self.assertLessEqual(degree((sampler,)), 6)
             self.assertLessEqual(last_for_items(sampler), 19 + 6 * 4 + 3)
 
     def test_chances_from_19_on_are_fractions_of_polynomials(self):
@@ -345,33 +345,33 @@ class EveryLength(unittest.TestCase):
         for text in (*FOUR, LATE_19, LATE_20, LATE_21, LATE_PAIRS, *texts):
             sampler = Sampler(text)
             values = {}
-            for n in range(19, 19 + degree(sampler) + 6):
+            for n in range(19, 19 + degree((sampler,)) + 6):
                 under = 1
-                for factor, summand in forms_below(sampler):
+                for factor, summand in forms_below((sampler,)):
                     under *= factor * n + summand
                 for share, moves in ways(sampler, n):
                     known = values.setdefault(moves, {})
                     known[n] = known.get(n, 0) + Fraction(*share) * under
             for known in values.values():
-                row = [known.get(n, 0) for n in range(19, 19 + degree(sampler) + 6)]
-                for time in range(degree(sampler) + 1):
+                row = [known.get(n, 0) for n in range(19, 19 + degree((sampler,)) + 6)]
+                for time in range(degree((sampler,)) + 1):
                     row = [later - early for early, later in zip(row, row[1:])]
                 with self.subTest(text):
                     self.assertEqual(row, [0] * 5)
 
     def test_how_far_is_looked(self):
-        self.assertEqual(degree(Sampler("places 3")), 0)
-        self.assertEqual(degree(fading(9)), 0)
-        self.assertEqual(degree(pair()), 1)
-        self.assertEqual(degree(Sampler(LATE_PAIRS)), 1)
-        self.assertEqual(degree(Sampler(LATE_21)), 3)
+        self.assertEqual(degree((Sampler("places 3"),)), 0)
+        self.assertEqual(degree((fading(9),)), 0)
+        self.assertEqual(degree((pair(),)), 1)
+        self.assertEqual(degree((Sampler(LATE_PAIRS),)), 1)
+        self.assertEqual(degree((Sampler(LATE_21),)), 3)
         branches = text_of("draw a below 2", "if a is 0", "  draw r below n", "  draw s below n", "else",
                            "  draw r below n", "  draw s below 2*n", places=1)
-        self.assertEqual(sorted(forms_below(Sampler(branches))), [(0, 2), (1, 0), (1, 0), (2, 0)])
+        self.assertEqual(sorted(forms_below((Sampler(branches),))), [(0, 2), (1, 0), (1, 0), (2, 0)])
         # The way with the second draw has no chance before 20.
         late_draw = text_of("draw s below 3*n", "if s < n - 9", "  if s < 9", "    put 0", "  else", "    if s is 9",
                             "      put 0", "    else", "      draw q below n + 5", places=1)
-        self.assertEqual(sorted(forms_below(Sampler(late_draw))), [(1, 5), (3, 0)])
+        self.assertEqual(sorted(forms_below((Sampler(late_draw),))), [(1, 5), (3, 0)])
         self.assertEqual(last_for_items(single()), 22)
         self.assertEqual(last_for_items(Sampler(TRIPLE)), 26)
         self.assertEqual(last_for_pairs(pair()), 26)

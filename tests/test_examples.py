@@ -63,6 +63,34 @@ class Examples(unittest.TestCase):
         )
         self.assertTrue(is_even(single()))
 
+    def test_formulas(self):
+        from evenkeeps.catalog import fading, pair, single
+        from evenkeeps.formulas import first_off, follows
+        from evenkeeps.ratios import Ratio
+        n = Ratio((0, 1))
+        share = Ratio((2,)).over(n)
+        self.assertEqual(
+            [follows(single(), 1, Ratio((1,)).over(n)), follows(pair(), 1, share), follows(pair(), 1, share, since=2), first_off(pair(), 1, share), first_off(fading(2), n, Ratio((1,)).over(n * 2))],
+            [True, False, True, (1, 1), (3, 1)],
+        )
+
+    def test_costs(self):
+        from evenkeeps.catalog import fading, last, pair, single
+        from evenkeeps.costs import draws_at, first_more, never_more, writes_at, writes_later
+        self.assertEqual(
+            [draws_at(pair(), 2), draws_at(pair(), 3), str(writes_later(pair())), writes_at(pair(), 1), never_more(pair(), single()), first_more(single(), pair())],
+            [(0, 1), (1, 1), '(2)/(n)', (1, 1), True, 1],
+        )
+        self.assertTrue(never_more(last(1), fading(2)))
+
+    def test_joins(self):
+        from evenkeeps.joins import Join, first_unfair, is_fair, join_rows, patterns, poured
+        odd = Join("join 1\ndraw r below m + n\nif r < m\n  take 0 0")
+        self.assertEqual(
+            [is_fair(poured()), patterns(poured(), 2, 3), first_unfair(odd), join_rows(poured(), (2, 3), (2,), ("a",), ("b",))],
+            [True, (((0,), (2, 5)), ((1,), (3, 5))), (1, 2, (0,)), ('b',)],
+        )
+
 
 if __name__ == "__main__":
     unittest.main()

@@ -291,7 +291,8 @@ class Language(unittest.TestCase):
                     self.assertTrue(isinstance(call, ast.Call) and call.func is node, self.where(path, node))
                     parent = above[call]
                     iterated = isinstance(parent, (ast.For, ast.comprehension)) and parent.iter is call
-                    self.assertTrue(iterated or isinstance(parent, ast.YieldFrom), self.where(path, node))
+                    taken = isinstance(parent, ast.Call) and ast.unparse(parent.func) in ("list", "tuple", "zip")
+                    self.assertTrue(iterated or taken or isinstance(parent, ast.YieldFrom), self.where(path, node))
                     for argument in call.args:
                         self.assertIsInstance(argument, (ast.Name, ast.Attribute, ast.Constant, ast.Tuple))
 
@@ -339,6 +340,12 @@ class Interface(unittest.TestCase):
                     "tried": "", "runs": "", "play": ""},
         "evenness": {"is_even": "", "first_uneven": "", "is_even_in_places": "", "is_even_in_pairs": "",
                      "first_uneven_pairs": ""},
+        "formulas": {"follows": "", "first_off": ""},
+        "likeness": {"alike": "", "first_apart": "", "alike_in_pairs": ""},
+        "costs": {"draws_at": "", "writes_at": "", "draws_later": "", "writes_later": "", "never_more": "",
+                  "first_more": ""},
+        "joins": {"poured": "", "Join": "__init__ __eq__ __str__ __repr__", "patterns": "", "is_fair": "",
+                  "first_unfair": "", "join_rows": ""},
     }
 
     def test_definitions(self):
