@@ -1,9 +1,8 @@
 """Whether the chance of each item follows a formula, for rows of every length."""
 
 from evenkeeps.checks import check_length, check_sampler
-from evenkeeps.errors import Gap
 from evenkeeps.horizons import last_for_formula
-from evenkeeps.ratios import as_ratio
+from evenkeeps.ratios import as_ratio, value_or_none
 from evenkeeps.signs import first_with
 from evenkeeps.steps import standings
 
@@ -31,14 +30,6 @@ def first_off(sampler, by_item, by_length, since=1):
             if len(items) > 0:
                 return (n, items[0])
     return first_gap(item_share, length_share, last + 1)
-
-
-def value_or_none(ratio, at):
-    """The value of a ratio, None for a gap."""
-    try:
-        return ratio(at)
-    except Gap:
-        return None
 
 
 def items_off(rows, below, told, share):

@@ -20,23 +20,15 @@ def followed(program, compared):
         if row.kind == "draw":
             compared = {**compared, row.name: (row.form,)}
         elif row.kind == "if":
-            forms = forms_of_test(row)
-            if any([is_crossed(form, past) for form in forms for past in compared[row.name]]):
+            # A number C stands for C + 1, too: neither of them grows or falls, so they cross the same forms, none.
+            if any([is_crossed(row.form, past) for past in compared[row.name]]):
                 lines.append(row.line)
-            before = {**compared, row.name: united(compared[row.name], forms)}
+            before = {**compared, row.name: united(compared[row.name], (row.form,))}
             one, one_lines = followed(body, before)
             other, other_lines = followed(otherwise, before)
             compared = {name: united(one.get(name, ()), other.get(name, ())) for name in list(one) + list(other)}
             lines = lines + one_lines + other_lines
     return (compared, lines)
-
-
-def forms_of_test(row):
-    """The forms with which a test compares its name."""
-    if row.sign == "<":
-        return (row.form,)
-    first, second, summand = row.form
-    return (row.form, (first, second, summand + 1))
 
 
 def united(forms, others):

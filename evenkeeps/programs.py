@@ -28,10 +28,14 @@ class Row:
         self.spots = spots
 
 
+def is_letters(word):
+    """Whether it consists of one to eight letters from a to z."""
+    return word.isascii() and word.isalpha() and word.islower() and len(word) <= MOST_LETTERS
+
+
 def is_name(word):
     """Whether numbers that are drawn can have this name."""
-    written = word.isascii() and word.isalpha() and word.islower()
-    return written and len(word) <= MOST_LETTERS and word not in NO_NAMES
+    return is_letters(word) and word not in NO_NAMES
 
 
 def read_depth(line):

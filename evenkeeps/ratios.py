@@ -115,6 +115,14 @@ def as_ratio(value):
     return Ratio((value,))
 
 
+def value_or_none(ratio, at):
+    """The value of a ratio, None for a gap."""
+    try:
+        return ratio(at)
+    except Gap:
+        return None
+
+
 def ratio_text(top, bottom):
     """The text of the ratio with these factors, which are in lowest terms."""
     if bottom == (1,):

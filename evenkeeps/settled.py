@@ -33,3 +33,36 @@ def product_of(forms):
     for factor, summand in forms:
         out = product(out, (summand, factor))
     return out
+
+
+def new_row(sampler):
+    """The chances of the new item to lie in the places after the step n, ratios of n from 19 on."""
+    found = settled_paths(sampler)
+    return tuple([ratio_to(found, "new", place) for place in range(sampler.places)])
+
+
+def later_table(sampler):
+    """The step table of n + 1: for each place the row of the chances to go from there to the places, ratios of n."""
+    found = settled_paths(sampler)
+    places = list(range(sampler.places))
+    return tuple([tuple([ratio_to(found, here, there).later(1) for there in places]) for here in places])
+
+
+def ratio_to(found, thing, place):
+    """The ratio that the chances of the ways that bring a thing to a place add up to."""
+    return ratio_of([(bounds, 1) for bounds, moves in found if moves[place] == thing])
+
+
+def led_back(table, column):
+    """What the step table of n + 1 makes of a column, n + 1 being put in for n in it."""
+    return tuple([row_times(row, one_later(column)) for row in table])
+
+
+def one_later(ratios):
+    """The ratios with n + 1 put in for n."""
+    return tuple([ratio.later(1) for ratio in ratios])
+
+
+def row_times(row, column):
+    """The product of a row and a column of ratios."""
+    return sum([left * right for left, right in zip(row, column)])

@@ -68,6 +68,13 @@ def next_change(factors, at, end):
     return high
 
 
+def last_zero(factors, since):
+    """The last number from `since` on at which a polynomial that is not 0 has the value 0, or None."""
+    found = spells(shifted(factors, since))
+    ends = [since + found[k + 1][0] - 1 for k, (start, now) in enumerate(found) if now == 0]
+    return ends[-1] if len(ends) > 0 else None
+
+
 def first_with(factors, since, wanted):
     """The first number from `since` on at which the polynomial has the wanted sign, or None."""
     starts = [since + start for start, now in spells(shifted(factors, since)) if now == wanted]

@@ -91,6 +91,26 @@ class Examples(unittest.TestCase):
             [True, (((0,), (2, 5)), ((1,), (3, 5))), (1, 2, (0,)), ('b',)],
         )
 
+    def test_gaps(self):
+        from evenkeeps.gaps import even_fillings, fillings
+        text = "places 1\ndraw r below ?\nif r is 0\n  put 0"
+        self.assertEqual(
+            [even_fillings(text)[:3], len(even_fillings(text)), len(fillings(text))],
+            [('n', 'n + 1', 'n + 2'), 10, 42],
+        )
+
+    def test_certificates(self):
+        from evenkeeps.catalog import fading, pair
+        from evenkeeps.certificates import certify_even, certify_join
+        from evenkeeps.checker import holds
+        from evenkeeps.joins import poured
+        claim, certificate = certify_even(pair())
+        fair, nothing = certify_join(poured())
+        self.assertEqual(
+            [claim[0], holds(claim, certificate), holds(claim, ()), certify_even(fading(3))[0][2:], holds(fair, nothing), holds(("uneven", str(pair()), 5, 1, 2), ())],
+            ['even', True, False, (2, 1, 2), True, False],
+        )
+
 
 if __name__ == "__main__":
     unittest.main()

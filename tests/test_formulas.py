@@ -137,7 +137,7 @@ class Formulas(unittest.TestCase):
         self.check(FIVE, only.over(Ratio((only(5)[0],))), 1, (1, 1))
 
     def test_gaps(self):
-        for at in (1, 2, 5, 18, 19, 20, 21, 59, 60, 61, 1000, 10 ** 12, 10 ** 38):
+        for at in (1, 2, 5, 18, 19, 20, 21, 22, 23, 24, 59, 60, 61, 1000, 10 ** 12, 10 ** 38):
             gap = over(1, N - at)
             self.check(NOTHING, gap, 0, (at, at))
             self.check(NOTHING, 0, gap, (at, 1))

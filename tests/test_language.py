@@ -319,7 +319,14 @@ class Language(unittest.TestCase):
     def test_handlers(self):
         own = {node.name for path, node in nodes(ast.ClassDef)}
         for path, node in nodes(ast.ExceptHandler):
-            self.assertIn(node.type.id, own | {"KeyError", "ZeroDivisionError"}, self.where(path, node))
+            for kind in node.type.elts if isinstance(node.type, ast.Tuple) else [node.type]:
+                self.assertIn(kind.id, own | {"KeyError", "ZeroDivisionError"}, self.where(path, node))
+
+    def test_what_stands_in_finally(self):
+        for path, node in nodes(ast.Try):
+            for part in node.finalbody:
+                self.assertIsInstance(part, ast.Assign, self.where(path, part))
+                self.assertIsInstance(part.value, (ast.Name, ast.Attribute), self.where(path, part))
 
     def test_errors_are_made_where_they_are_raised(self):
         for path, node in nodes(ast.Raise):
@@ -346,6 +353,12 @@ class Interface(unittest.TestCase):
                   "first_more": ""},
         "joins": {"poured": "", "Join": "__init__ __eq__ __str__ __repr__", "patterns": "", "is_fair": "",
                   "first_unfair": "", "join_rows": ""},
+        "gaps": {"fillings": "", "even_fillings": ""},
+        "checker": {"holds": ""},
+        "certificates": {"certify_even": "", "certify_pairs": "", "certify_apart": "", "certify_join": "",
+                         "certify_off": ""},
+        "shelves": {"Shelf": "__init__ __setitem__ __getitem__ wish free drop wishes all_or_none back __contains__"
+                             " __len__ __repr__"},
     }
 
     def test_definitions(self):

@@ -100,3 +100,10 @@ SHORT = (
             "  if r < 2*n - 1", "    empty 1", "  else", "    put 1", places=2),
     text_of("draw r below 4", "if r is 9", "  put 0", "if r < -3", "  put 1", "if r < 3*n + 9", "  put 2"),
 )
+
+
+def idle(less, places=2):
+    """`single` in place 0; place 1, in which nothing ever lies, is emptied now and then."""
+    return text_of(
+        "draw r below n", "draw y below 9", "draw z below 9", "if r is 0", "  put 0", "if y is 0", f"  if z < {less}",
+        "    empty 1", places=places)
