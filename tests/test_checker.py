@@ -297,6 +297,58 @@ class Even(unittest.TestCase):
         self.assertIs(holds(("even", PAIR), ((ONES, ("2", "2")), ((lead, "0"), ("0", lead)), 19)), True)
         self.assertIs(holds(("even", PAIR), ((("1", "2"), ONES), ((lead, "0"), ("0", lead)), 19)), False)
 
+    def test_a_first_column_that_is_not_that_of_ones(self):
+        # All other conditions hold, since nothing is ever kept.
+        for column, fine in ((ONES, True), (("1", "2"), False), (("2", "1"), False), (("2", "2"), False), (("1", "0"), False)):
+            self.assertIs(holds(("even", "places 2"), ((column,), (("1",),), 19)), fine)
+
+    def test_columns_with_unlike_products(self):
+        lead = ("(n)/(n + 1)", "0")
+        leads = (lead, lead[::-1])
+        # The items 1 and 2 of `pair` do not lie in either place with the same chance, the others do.
+        for column in (("1", "0"), ("0", "1"), ("1", "2"), ("(1)/(2)", "(1)/(3)")):
+            for last_one in (19, 20, 60):
+                self.assertIs(holds(("even", PAIR), ((ONES, column), leads, last_one)), False)
+                self.assertIs(holds(("even", PAIR), ((ONES, column, ONES), tuple(
+                    tuple(lead[0] if k == at else "0" for k in range(3)) for at in range(3)), last_one)), False)
+        for column in (("1", "1"), ("3", "3"), ("(1)/(2)", "(1)/(2)"), ("0", "0")):
+            self.assertIs(holds(("even", PAIR), ((ONES, column), leads, 19)), True)
+        # Here all items up to 19 lie in place 0, if they are kept, but later ones can lie in place 1, too.
+        text = text_of(
+            "draw r below n", "draw s below 3*n", "if r is 0", "  empty 0", "  empty 1", "  put 0", "  if s < n - 9",
+            "    if s < 9", "      draw q below 1", "    else", "      if s is 9", "        draw q below 1", "      else",
+            "        put 1", places=2)
+        self.assertIs(holds(*certify_even(Sampler(text))), True)
+        for column in (("1", "0"), ("0", "1")):
+            for last_one in (19, 20, 60):
+                self.assertIs(holds(("even", text), ((ONES, column), leads, last_one)), False)
+
+    def test_columns_of_unlike_ratios(self):
+        """The products at the last length are those of the ratios, also where these have unlike denominators."""
+        text = text_of("draw r below n", "if r is 0", "  empty 0", "  empty 1", "  put 0", places=2)
+        lead = ("(n)/(n + 1)", "0")
+        for column in (("1", "0"), ("(1)/(3)", "(1)/(7)"), ("(2)/(5)", "-4")):
+            self.assertIs(holds(("even", text), ((ONES, column), (lead, lead[::-1]), 23)), True)
+        # The item 1 lies in place 0 or in place 2, the item 2 in place 1, the others in all of them.
+        text = text_of(
+            "if n < 3", "  if n is 1", "    put 0", "    draw s below 2", "    if s is 0", "      exchange 0 2", "  else", "    put 1",
+            "else", "  draw r below n", "  if r is 0", "    empty 0", "    empty 2", "    put 0", "    draw s below 2", "    if s is 0",
+            "      exchange 0 2", "  if r is 1", "    put 1")
+        leads = (lead, lead[::-1])
+        for column, fine in (
+            (("(2)/(3)", "(1)/(2)", "(1)/(3)"), True), (("(1)/(3)", "(1)/(2)", "(2)/(3)"), True), (("1", "1", "1"), True),
+            (("(1)/(n)", "0", "(-1)/(n)"), False), (("(2)/(3)", "(1)/(3)", "(1)/(2)"), False), (("1", "0", "1"), False),
+        ):
+            self.assertIs(holds(("even", text), ((("1",) * 3, column), leads, 40)), fine)
+
+    def test_products_that_are_equal_at_the_last_length_only(self):
+        text = PAIR + "\nif n is 12\n  draw s below 2\n  if s is 0\n    exchange 0 1"
+        lead = ("(n)/(n + 1)", "0")
+        for column in (("1", "0"), ("0", "1"), ("3", "-5")):
+            for last_one in (19, 30):
+                self.assertIs(holds(("even", text), ((ONES, column), (lead, lead[::-1]), last_one)), True)
+                self.assertIs(holds(("even", PAIR), ((ONES, column), (lead, lead[::-1]), last_one)), False)
+
     def test_gaps(self):
         """A second column 1 / (n - g), which is led to (n / (n + 1)) / (n + 1 - g)."""
         lead = "(n)/(n + 1)"

@@ -1,7 +1,7 @@
 import unittest
 
 from evenkeeps.polynomials import product, shifted, value_at
-from evenkeeps.signs import first_with, next_change, sign, spells
+from evenkeeps.signs import first_with, last_zero, next_change, sign, spells
 from evenkeeps.spaces import space_of
 from tests.support import steps
 
@@ -65,6 +65,15 @@ class Signs(unittest.TestCase):
         self.assertEqual(first_with(with_roots(7, far), 8, 0), far)
         self.assertEqual(first_with(with_roots(7, far), 8, 1), far + 1)
         self.assertIsNone(first_with(with_roots(7), 8, 0))
+
+    def test_the_last_zero(self):
+        for roots, last in (((7,), 7), ((3, 7, 20), 20), ((20, 21, 22), 22), ((5, 5), 5), ((-3, -1), None), ((), None), ((0,), 0)):
+            self.assertEqual(last_zero(with_roots(*roots), 0), last)
+            self.assertEqual(last_zero(with_roots(*roots, lead=-2), 0), last)
+            self.assertEqual(last_zero(with_roots(*roots, 19), 19), max(last or 0, 19))
+            self.assertEqual(last_zero(with_roots(*roots), 6), last if last and last > 5 else None)
+        self.assertEqual(last_zero(with_roots(10 ** 30, 4), 2), 10 ** 30)
+        self.assertIsNone(last_zero((-9, 2), 0))
 
     def test_a_change_between_two_numbers(self):
         self.assertEqual(next_change((-7, 1), 0, None), 7)
